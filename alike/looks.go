@@ -1,4 +1,4 @@
-package canon
+package alike
 
 // A step is how the one look comes of another one.
 type step[T comparable] struct {

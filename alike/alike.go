@@ -1,4 +1,5 @@
-package canon
+// Package alike finds which nodes of types' graphs are alike (see shared/doc/09-canon.md). Layer 9 leans on it, and layer 12, which knows nothing of layer 9.
+package alike
 
 import (
 	"slices"
@@ -23,8 +24,8 @@ type finder struct {
 	last []int // of each node the last one of the args that are it
 }
 
-// alike is of each node the least one that it is alike to.
-func alike(nodes []api.Node) []int {
+// Least is of each node the least one that it is alike to. The nodes must be such as may be, and their Args some of them.
+func Least(nodes []api.Node) []int {
 	f := finder{nodes: nodes, classes: newClasses(len(nodes))}
 	f.findArgs()
 	f.splitByNodes()
